@@ -16,47 +16,12 @@ func (x *program) denoting() []bool {
 	found := make([]bool, len(x.nodes))
 	for _, m := range x.modules {
 		f := finder{tree: x.tree, module: m, times: map[string]int{}, found: found}
-		f.members(m.node)
+		f.readAll(f.declarations(m.node))
 	}
 	return found
 }
 
-// members finds names in the declarations of a module, or of a Timed in it.
-func (f *finder) members(i int) {
-	for _, d := range f.declarations(i) {
-		switch f.nodes[d].Op {
-		case api.OpBind:
-			f.topPattern(f.kids(d)[0])
-			f.read(d)
-		case api.OpTimed:
-			f.read(f.kids(d)[0])
-			f.members(d)
-		default:
-			f.read(d)
-		}
-	}
-}
-
-// topPattern finds names in a pattern whose variables are members.
-func (f *finder) topPattern(pattern int) {
-	f.constantsOf(pattern)
-	for i := pattern; i < f.ends[pattern]; i++ {
-		if n := f.nodes[i]; n.Op == api.OpName && !f.module.constants.has(n.Str) {
-			f.found[i] = true
-		}
-	}
-}
-
-// constantsOf finds the names of constructors and channels in a pattern, where they are not hidden by anything.
-func (f *finder) constantsOf(pattern int) {
-	for i := pattern; i < f.ends[pattern]; i++ {
-		if n := f.nodes[i]; n.Op == api.OpName && f.module.constants.own[n.Str] {
-			f.found[i] = true
-		}
-	}
-}
-
-// read finds names in what is not a pattern. It goes through the children of a node in such an order that the names that a child binds are visible in the later ones.
+// read finds names in a subtree. It goes through the children of a node in such an order that the names that a child binds are visible in the later ones. A pattern is read where its own names are visible, so that what is found in it are the names that do not bind (no other pattern of the module binds them, but a Fun of a Let may) and the members that a Bind of the module declares.
 func (f *finder) read(i int) {
 	f.use(i)
 	outside := len(f.bound)
@@ -65,16 +30,12 @@ func (f *finder) read(i int) {
 	case api.OpGen, api.OpInput, api.OpSome:
 		f.readAll(kids[1:])
 		f.bind(kids[:1])
+		f.read(kids[0])
 		return // its names are bound up to the end of the node to which it belongs
 	case api.OpParams:
 		f.readAll(f.withPairsLast(kids))
 		return
-	case api.OpFun, api.OpLambda:
-		f.bind(f.binders(i))
-		f.readAll(kids[1:])
-	case api.OpBind:
-		f.readAll(kids[1:])
-	case api.OpLet:
+	case api.OpFun, api.OpLambda, api.OpLet:
 		f.bind(f.binders(i))
 		f.readAll(kids)
 	case api.OpSeqComp, api.OpSetComp, api.OpEvComp:
@@ -120,9 +81,6 @@ func (f *finder) use(i int) {
 // bind makes the names of binders visible.
 func (f *finder) bind(binders []int) {
 	for _, b := range binders {
-		if f.nodes[b].Op != api.OpFun {
-			f.constantsOf(b)
-		}
 		for _, name := range f.boundBy(b, f.module.constants) {
 			f.bound = append(f.bound, name)
 			f.times[name]++

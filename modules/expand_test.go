@@ -2,6 +2,7 @@ package modules_test
 
 import (
 	"slices"
+	"strings"
 	"testing"
 
 	"cspcheck/api"
@@ -158,15 +159,57 @@ func TestExpandOfConstructorsOfOtherModules(t *testing.T) {
 		"datatype N'T = N'A", "N'g(N'A) = N'A", "h(A) = A"))
 }
 
-func TestExpandOfHiddenConstructors(t *testing.T) {
-	// An expression in the Let means the function A of the Let, but a pattern cannot.
-	wantBody(t, "datatype T = A\ng = let A = 1 within (A, \\ A @ A)", "datatype M'T = M'A\nM'g = let A = 1 within (A, \\ M'A @ A)")
-	// The constructor of the program is meant in the pattern, and the function of the module elsewhere.
-	wantProgram(t, lines("datatype T = A", "module M", "  A = 1", "exports", "  f(A) = A", "  (A, x) = A", "endmodule"),
-		lines("datatype T = A", "M'A = 1", "M'f(A) = M'A", "(A, M'x) = M'A"))
-	// Both the program and the module have it.
+func TestExpandOfPatternsWithConstructorsThatLetsHide(t *testing.T) {
+	wantHidden := func(body, want string) {
+		t.Helper()
+		wantBody(t, "datatype T = A | B\n"+body, "datatype M'T = M'A | M'B\n"+want)
+	}
+	wantHidden("g = let A = 1 within (A, \\ A, B @ A.B)", "M'g = let A = 1 within (A, \\ A, M'B @ A.M'B)")
+	wantHidden("g = let\n    (A, B, x) = A\n    A = a\n    h(A, B) = A\n  within A.B.x\nh(A) = A",
+		"M'g = let\n    (A, M'B, x) = A\n    A = M'a\n    h(A, M'B) = A\n  within A.M'B.x\nM'h(M'A) = M'A")
+	wantHidden("g = let A = 1 within <A | (A, B) <- A> . ([] A : a @ A) . (f [[A <- B | A <- B]])",
+		"M'g = let A = 1 within <A | (A, M'B) <- A> . ([] A : M'a @ A) . (M'f [[A <- M'B | A <- M'B]])")
+	wantHidden("g = let A = 1 within A?A?B$A:a -> A", "M'g = let A = 1 within A?A?M'B$A:M'a -> A")
+	wantHidden("g = let A = 1 within let B = 1 within \\ A @ \\ B @ A.B", "M'g = let A = 1 within let B = 1 within \\ A @ \\ B @ A.B")
+	wantHidden("g = (let A = 1 within A).(\\ A @ A)", "M'g = (let A = 1 within A).(\\ M'A @ M'A)")
+	// The Bind of a Let does not bind A, and its pattern means the member.
+	wantHidden("g = let (A, x) = A within \\ A @ A.x", "M'g = let (M'A, x) = M'A within \\ M'A @ M'A.x")
+}
+
+func TestExpandOfPatternsWithMembersThatAreConstantsOutside(t *testing.T) {
+	outside := "\ndatatype T = a | U\nchannel b, f, d"
+	wantMembers := func(body, want string) {
+		t.Helper()
+		wantProgram(t, module(strings.Split(body, "\n")...)+outside, want+"\nM'a = 1\nM'b = 2\nM'f(x) = x"+outside)
+	}
+	wantMembers("g(a, U, d, <x>^b, {f}) = a.x", "M'g(M'a, U, d, <x>^M'b, {M'f}) = M'a.x")
+	wantMembers("g(x, g) = \\ a, x, g @ a.x.g", "M'g(x, g) = \\ M'a, x, g @ M'a.x.g")
+	wantMembers("(a, b.U, x) = a.b.x", "(M'a, M'b.U, M'x) = M'a.M'b.M'x")
+	wantMembers("g = let (a, x) = b within a.x", "M'g = let (M'a, x) = M'b within M'a.x")
+	wantMembers("g = let a = b within \\ a, b @ a", "M'g = let a = M'b within \\ a, M'b @ a")
+	wantMembers("g = <a | (a, x) <- a, b@@x <- x>", "M'g = <M'a | (M'a, x) <- M'a, M'b@@x <- x>")
+	wantMembers("g = {a | a <- U}.{|a | a <- U|}", "M'g = {M'a | M'a <- U}.{|M'a | M'a <- U|}")
+	wantMembers("g = || a : b, x : a @ [a.x] a.x", "M'g = || M'a : M'b, x : M'a @ [M'a.x] M'a.x")
+	wantMembers("g = [| a |] a : b @ a", "M'g = [| M'a |] M'a : M'b @ M'a")
+	wantMembers("g = a [[a <- x | (a, x) <- b]]", "M'g = M'a [[M'a <- x | (M'a, x) <- M'b]]")
+	wantMembers("g = d?a?x:b$b!a -> a.x", "M'g = d?M'a?x:M'b$M'b!M'a -> M'a.x")
+	wantMembers("Timed (a)\n  g(a, x) = x\n  (b, y) = a\nendtimed", "Timed (M'a)\n  M'g(M'a, x) = x\n  (M'b, M'y) = M'a\nendtimed")
+	wantBody(t, "g(a) = a", "M'g(a) = a") // without the constructor, a binds
+}
+
+func TestExpandOfPatternsWithOtherMembers(t *testing.T) {
+	// A parameter, a datatype, a nametype or the function itself is a member, too.
+	wantProgram(t, lines("module M(p)", "  datatype T = V", "  nametype N = T", "  K(p, T, N, K, x) = \\ x @ x", "endmodule", "instance I = M(K)", "datatype U = p | T | N | K"),
+		lines("I'p = K", "datatype I'T = I'V", "nametype I'N = I'T", "I'K(I'p, I'T, I'N, I'K, x) = \\ x @ x", "datatype U = p | T | N | K"))
+	// Each instance has its own members.
+	wantProgram(t, lines("module M", "  f = [] K : g @ K", "  K = 1", "  g = {K}", "endmodule", "instance I = M", "datatype T = K"),
+		lines("M'f = [] M'K : M'g @ M'K", "M'K = 1", "M'g = {M'K}", "I'f = [] I'K : I'g @ I'K", "I'K = 1", "I'g = {I'K}", "datatype T = K"))
+	// Both the program and the module have a constructor or channel A.
 	wantProgram(t, lines("datatype T = A", "module M", "  channel A", "exports", "  f(A) = A", "endmodule"),
 		lines("datatype T = A", "channel M'A", "M'f(M'A) = M'A"))
+	// The constructor of the program makes A not bind, so A is no member of M by its Bind.
+	wantProgram(t, lines("datatype T = A", "module M", "  (A, x) = \\ A @ x", "endmodule"),
+		lines("datatype T = A", "(A, M'x) = \\ A @ M'x"))
 }
 
 func TestPositionsOfExpansions(t *testing.T) {

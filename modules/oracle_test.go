@@ -180,7 +180,7 @@ func (o *oracle) sees(i, pattern int) bool {
 	return later
 }
 
-// isBound reports whether a name that a node has outside of patterns is bound around it inside the module.
+// isBound reports whether a name that does not bind is bound around its node inside the module.
 func (o *oracle) isBound(i int) bool {
 	for j, n := range o.p {
 		if n.Str != o.p[i].Str || o.moduleAround(j) != o.moduleAround(i) {
@@ -211,10 +211,10 @@ func (o *oracle) denotes(i int) bool {
 	default:
 		return false
 	}
-	if o.patternAround(i) < 0 {
-		return !o.isBound(i)
+	if o.binds(i) {
+		return o.declares(module, i)
 	}
-	return o.declares(module, i) || o.constantIn(module, o.p[i].Str)
+	return !o.isBound(i)
 }
 
 // copies appends the declarations of a module for an instance. It returns their number, too.
