@@ -15,7 +15,7 @@ func (c constants) has(name string) bool {
 // variables returns the names that bind in a pattern, in the order of their occurrences.
 func (t tree) variables(pattern int, c constants) []string {
 	var l []string
-	for _, n := range t.subtree(pattern) {
+	for _, n := range t.Subtree(pattern) {
 		if n.Op == api.OpName && !c.has(n.Str) {
 			l = append(l, n.Str)
 		}
@@ -38,10 +38,10 @@ func distinct(names []string) []string {
 
 // binders returns the parts of a node by which it binds names: patterns, and the Funs of a Let.
 func (t tree) binders(i int) []int {
-	kids := t.kids(i)
-	switch t.nodes[i].Op {
+	kids := t.Kids(i)
+	switch t.Nodes[i].Op {
 	case api.OpFun, api.OpLambda:
-		return t.kids(kids[0])
+		return t.Kids(kids[0])
 	case api.OpLet:
 		return t.letBinders(i)
 	case api.OpSeqComp, api.OpSetComp, api.OpEvComp, api.OpRename, api.OpRepeat:
@@ -55,11 +55,11 @@ func (t tree) binders(i int) []int {
 func (t tree) letBinders(i int) []int {
 	var l []int
 	for _, d := range t.declarations(i) {
-		switch t.nodes[d].Op {
+		switch t.Nodes[d].Op {
 		case api.OpFun:
 			l = append(l, d)
 		case api.OpBind:
-			l = append(l, t.kids(d)[0])
+			l = append(l, t.Kids(d)[0])
 		}
 	}
 	return l
@@ -68,8 +68,8 @@ func (t tree) letBinders(i int) []int {
 // generators returns the children of the Params among some nodes.
 func (t tree) generators(nodes []int) []int {
 	for _, i := range nodes {
-		if t.nodes[i].Op == api.OpParams {
-			return t.kids(i)
+		if t.Nodes[i].Op == api.OpParams {
+			return t.Kids(i)
 		}
 	}
 	return nil
@@ -79,9 +79,9 @@ func (t tree) generators(nodes []int) []int {
 func (t tree) patternsOf(nodes []int) []int {
 	var l []int
 	for _, i := range nodes {
-		switch t.nodes[i].Op {
+		switch t.Nodes[i].Op {
 		case api.OpGen, api.OpInput, api.OpSome:
-			l = append(l, t.kids(i)[0])
+			l = append(l, t.Kids(i)[0])
 		}
 	}
 	return l
@@ -89,7 +89,7 @@ func (t tree) patternsOf(nodes []int) []int {
 
 // boundBy returns the names that a binder binds.
 func (t tree) boundBy(binder int, c constants) []string {
-	if n := t.nodes[binder]; n.Op == api.OpFun {
+	if n := t.Nodes[binder]; n.Op == api.OpFun {
 		return []string{n.Str}
 	}
 	return t.variables(binder, c)

@@ -10,7 +10,7 @@ import (
 func (x *program) firstError() (api.Pos, api.Errno) {
 	places := x.places()
 	taken := map[string]bool{}
-	for i, n := range x.nodes {
+	for i, n := range x.Nodes {
 		if !isPermitted(places[i], n.Op) {
 			return n.Pos, api.ErrInvalid
 		}
@@ -29,7 +29,7 @@ func (x *program) firstError() (api.Pos, api.Errno) {
 
 // errorAt returns the error of a node on its own.
 func (x *program) errorAt(i int) api.Errno {
-	switch n := x.nodes[i]; n.Op {
+	switch n := x.Nodes[i]; n.Op {
 	case api.OpInstance:
 		m := x.moduleOf(i)
 		if m == nil {

@@ -13,7 +13,7 @@ type finder struct {
 
 // denoting tells for each node of a program without errors whether its name denotes a member of the module around it.
 func (x *program) denoting() []bool {
-	found := make([]bool, len(x.nodes))
+	found := make([]bool, len(x.Nodes))
 	for _, m := range x.modules {
 		f := finder{tree: x.tree, module: m, times: map[string]int{}, found: found}
 		f.readAll(f.declarations(m.node))
@@ -25,8 +25,8 @@ func (x *program) denoting() []bool {
 func (f *finder) read(i int) {
 	f.use(i)
 	outside := len(f.bound)
-	kids := f.kids(i)
-	switch f.nodes[i].Op {
+	kids := f.Kids(i)
+	switch f.Nodes[i].Op {
 	case api.OpGen, api.OpInput, api.OpSome:
 		f.readAll(kids[1:])
 		f.bind(kids[:1])
@@ -57,7 +57,7 @@ func (f *finder) readAll(nodes []int) {
 func (f *finder) withPairsLast(nodes []int) []int {
 	var pairs, others []int
 	for _, i := range nodes {
-		if f.nodes[i].Op == api.OpPair {
+		if f.Nodes[i].Op == api.OpPair {
 			pairs = append(pairs, i)
 		} else {
 			others = append(others, i)
@@ -68,7 +68,7 @@ func (f *finder) withPairsLast(nodes []int) []int {
 
 // use decides on the name of a node. The name of a type is hidden by nothing.
 func (f *finder) use(i int) {
-	n := f.nodes[i]
+	n := f.Nodes[i]
 	k := f.module.members[n.Str]
 	switch n.Op {
 	case api.OpTypeName:

@@ -25,14 +25,14 @@ func (b *builder) program() []api.Node {
 // expanded replaces the modules and instances of a program without errors by their declarations. It stops early if there are too many nodes.
 func (x *program) expanded() *builder {
 	denoting := x.denoting()
-	b := &builder{nodes: []api.Node{x.nodes[0]}}
+	b := &builder{nodes: []api.Node{x.Nodes[0]}}
 	for _, d := range x.declarations(0) {
 		switch m := x.moduleOf(d); {
 		case m != nil:
 			x.addParameters(b, m, d)
-			x.addMembers(b, m, x.nodes[d].Str, denoting)
-		case x.nodes[d].Op != api.OpModule:
-			b.add(x.subtree(d))
+			x.addMembers(b, m, x.Nodes[d].Str, denoting)
+		case x.Nodes[d].Op != api.OpModule:
+			b.add(x.Subtree(d))
 		}
 		if b.isFull() {
 			break
@@ -43,13 +43,13 @@ func (x *program) expanded() *builder {
 
 // addParameters adds the functions of the parameters of an instance.
 func (x *program) addParameters(b *builder, m *module, instance int) {
-	n := x.nodes[instance]
+	n := x.Nodes[instance]
 	for k, argument := range x.arguments(instance) {
-		parameter := x.nodes[m.parameters[k]].Str
+		parameter := x.Nodes[m.parameters[k]].Str
 		b.add(append([]api.Node{
 			{Op: api.OpFun, Str: n.Str + separator + parameter, Kids: 2, Pos: n.Pos},
 			{Op: api.OpParams},
-		}, x.subtree(argument)...))
+		}, x.Subtree(argument)...))
 	}
 }
 
@@ -57,10 +57,10 @@ func (x *program) addParameters(b *builder, m *module, instance int) {
 func (x *program) addMembers(b *builder, m *module, instance string, denoting []bool) {
 	for _, d := range x.declarations(m.node) {
 		first := len(b.nodes)
-		b.add(x.subtree(d))
-		for i := d; i < x.ends[d]; i++ {
+		b.add(x.Subtree(d))
+		for i := d; i < x.Ends[d]; i++ {
 			if denoting[i] {
-				b.nodes[first+i-d].Str = instance + separator + x.nodes[i].Str
+				b.nodes[first+i-d].Str = instance + separator + x.Nodes[i].Str
 			}
 		}
 	}

@@ -31,19 +31,19 @@ type module struct {
 }
 
 func newModule(t tree, i int, outer map[string]bool) *module {
-	kids := t.kids(i)
+	kids := t.Kids(i)
 	m := &module{
 		node:       i,
-		parameters: t.kids(kids[0]),
+		parameters: t.Kids(kids[0]),
 		constants:  constants{own: t.constantsIn(i), outer: outer},
 		members:    map[string]kind{},
 		exported:   map[string]bool{},
 	}
 	for _, k := range m.parameters {
-		m.add(member{t.nodes[k].Str, kindParameter})
+		m.add(member{t.Nodes[k].Str, kindParameter})
 	}
 	for n, block := range t.blocks(i) {
-		for _, d := range t.kids(block) {
+		for _, d := range t.Kids(block) {
 			for _, x := range t.declared(d, m.constants) {
 				m.add(x)
 				m.exported[x.name] = m.exported[x.name] || n == 1
@@ -62,18 +62,18 @@ func (m *module) add(x member) {
 
 // declared returns what a declaration declares for the module or program that has it.
 func (t tree) declared(i int, c constants) []member {
-	n := t.nodes[i]
+	n := t.Nodes[i]
 	switch n.Op {
 	case api.OpFun:
 		return []member{{n.Str, kindFunction}}
 	case api.OpBind:
-		return membersOf(kindVariable, distinct(t.variables(t.kids(i)[0], c)))
+		return membersOf(kindVariable, distinct(t.variables(t.Kids(i)[0], c)))
 	case api.OpData:
-		return append([]member{{n.Str, kindData}}, membersOf(kindConstructor, t.names(t.kids(i)))...)
+		return append([]member{{n.Str, kindData}}, membersOf(kindConstructor, t.names(t.Kids(i)))...)
 	case api.OpNametype:
 		return []member{{n.Str, kindNametype}}
 	case api.OpChannel:
-		names := t.kids(i)
+		names := t.Kids(i)
 		return membersOf(kindChannel, t.names(names[:len(names)-int(n.Int)]))
 	case api.OpTimed:
 		var l []member
@@ -88,7 +88,7 @@ func (t tree) declared(i int, c constants) []member {
 func (t tree) names(nodes []int) []string {
 	var l []string
 	for _, i := range nodes {
-		l = append(l, t.nodes[i].Str)
+		l = append(l, t.Nodes[i].Str)
 	}
 	return l
 }

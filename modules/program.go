@@ -31,14 +31,14 @@ func newProgram(p []api.Node) *program {
 func (x *program) findTopModules() {
 	for _, d := range x.declarations(0) {
 		m := x.modules[d]
-		if name := x.nodes[d].Str; m != nil && x.topModules[name] == nil {
+		if name := x.Nodes[d].Str; m != nil && x.topModules[name] == nil {
 			x.topModules[name] = m
 		}
 	}
 }
 
 func (x *program) findInstances() {
-	for i, n := range x.nodes {
+	for i, n := range x.Nodes {
 		if m := x.moduleOf(i); m != nil {
 			x.instances[n.Str] = append(x.instances[n.Str], m)
 		}
@@ -47,21 +47,21 @@ func (x *program) findInstances() {
 
 // moduleOf returns the module of which a node makes an instance with its name, or nil.
 func (x *program) moduleOf(i int) *module {
-	switch x.nodes[i].Op {
+	switch x.Nodes[i].Op {
 	case api.OpModule:
 		if m := x.modules[i]; len(m.parameters) == 0 {
 			return m
 		}
 	case api.OpInstance:
-		return x.topModules[x.nodes[x.kids(i)[0]].Str]
+		return x.topModules[x.Nodes[x.Kids(i)[0]].Str]
 	}
 	return nil
 }
 
 // arguments returns the arguments of an Instance. A Module has none.
 func (x *program) arguments(i int) []int {
-	if x.nodes[i].Op != api.OpInstance {
+	if x.Nodes[i].Op != api.OpInstance {
 		return nil
 	}
-	return x.kids(x.kids(i)[1])
+	return x.Kids(x.Kids(i)[1])
 }
