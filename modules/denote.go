@@ -21,29 +21,25 @@ func (x *program) denoting() []bool {
 	return found
 }
 
-// read finds names in a subtree. It goes through the children of a node in such an order that the names that a child binds are visible in the later ones. A pattern is read where its own names are visible, so that what is found in it are the names that do not bind (no other pattern of the module binds them, but a Fun of a Let may) and the members that a Bind of the module declares.
+// read finds names in a subtree. A pattern is read where its own names are visible, so that what is found in it are the names that do not bind (no other pattern of the module binds them, but a Fun of a Let may) and the members that a Bind of the module declares.
 func (f *finder) read(i int) {
 	f.use(i)
 	outside := len(f.bound)
-	kids := f.Kids(i)
+	kids := f.InScopeOrder(i)
 	switch f.Nodes[i].Op {
 	case api.OpGen, api.OpInput, api.OpSome:
-		f.readAll(kids[1:])
-		f.bind(kids[:1])
-		f.read(kids[0])
+		pattern := len(kids) - 1
+		f.readAll(kids[:pattern])
+		f.bind(kids[pattern:])
+		f.readAll(kids[pattern:])
 		return // its names are bound up to the end of the node to which it belongs
 	case api.OpParams:
-		f.readAll(f.withPairsLast(kids))
+		f.readAll(kids)
 		return
 	case api.OpFun, api.OpLambda, api.OpLet:
 		f.bind(f.binders(i))
-		f.readAll(kids)
-	case api.OpSeqComp, api.OpSetComp, api.OpEvComp:
-		f.readAll(kids[1:])
-		f.read(kids[0])
-	default:
-		f.readAll(kids)
 	}
+	f.readAll(kids)
 	f.unbind(outside)
 }
 
@@ -51,19 +47,6 @@ func (f *finder) readAll(nodes []int) {
 	for _, i := range nodes {
 		f.read(i)
 	}
-}
-
-// withPairsLast returns nodes with the Pairs of a Rename behind its Gens.
-func (f *finder) withPairsLast(nodes []int) []int {
-	var pairs, others []int
-	for _, i := range nodes {
-		if f.Nodes[i].Op == api.OpPair {
-			pairs = append(pairs, i)
-		} else {
-			others = append(others, i)
-		}
-	}
-	return append(others, pairs...)
 }
 
 // use decides on the name of a node. The name of a type is hidden by nothing.
