@@ -80,7 +80,15 @@ func TestApplyLimits(t *testing.T) {
 	wantApply(t, bind(0, data(1)), everywhere, grouped(copies(400, data(1))))
 }
 
-// P7.2: variables without a Binding may be in no range, and a substitution may be long.
+// P7.2: a substitution may replace numbers that no variable of a type has.
+func TestApplyOfOtherNumbers(t *testing.T) {
+	s := []binding{{Var: -5, Type: boolean()}, {Var: 0, Type: integer()}, {Var: maxNum + 1, Type: boolean()}}
+	wantApply(t, s, tuple(variable(0), variable(1)), tuple(integer(), variable(1)))
+	wantApply(t, s, variable(-5), nil)
+	wantApply(t, s, variable(maxNum+1), nil)
+}
+
+// P7.2: a substitution may have more Bindings than a type can have variables.
 func TestApplyOfLongSubstitutions(t *testing.T) {
 	var s []binding
 	for v := range 20000 {
