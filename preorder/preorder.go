@@ -1,4 +1,4 @@
-// Package preorder finds the parts of a syntax tree, which is a list of nodes in preorder. It serves the layers that read trees.
+// Package preorder finds the parts of trees of syntax and of code, which are lists of nodes in preorder. It serves the layers that read them.
 package preorder
 
 import "cspcheck/api"
@@ -11,26 +11,13 @@ type Tree struct {
 
 // New returns the Tree of a list of nodes, which must be one tree. The list is not copied.
 func New(p []api.Node) Tree {
-	t := Tree{Nodes: p, Ends: make([]int, len(p))}
-	for i := len(p) - 1; i >= 0; i-- {
-		end := i + 1
-		for range p[i].Kids {
-			end = t.Ends[end]
-		}
-		t.Ends[i] = end
-	}
-	return t
+	ends, _ := endsOf(p, func(n api.Node) int { return n.Kids })
+	return Tree{Nodes: p, Ends: ends}
 }
 
 // Kids returns the children of a node.
 func (t Tree) Kids(i int) []int {
-	l := make([]int, t.Nodes[i].Kids)
-	next := i + 1
-	for k := range l {
-		l[k] = next
-		next = t.Ends[next]
-	}
-	return l
+	return kidsOf(t.Ends, i, t.Nodes[i].Kids)
 }
 
 // Subtree returns the nodes of the subtree of a node.
